@@ -1,0 +1,1 @@
+"""Programs in a control store whose next address is a base ORed with conditions."""
