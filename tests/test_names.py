@@ -7,7 +7,7 @@ from support import any_values
 
 class NamesTest(unittest.TestCase):
     def test_names(self):
-        for name in ["a", "z", "a1", "a0z9", "abcdefgh", "z9999999", "tofu", "iff", "tags", "al", "non", "todo", "self"]:
+        for name in ["a", "z", "a1", "a0z9", "abcdefgh", "z9999999", "tofu", "iff", "tags", "al", "non", "self"]:
             self.assertIs(is_name(name), True, name)
 
     def test_lengths(self):

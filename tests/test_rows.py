@@ -54,8 +54,8 @@ class RowsMadeTest(unittest.TestCase, Checks):
         self.assertEqual(len(Rows.full(("a", "abcdefgh", "c", "d", "e"))), 32)
 
     def test_wrong_rows(self):
-        wrong = any_values() + [("b", "a"), ("a", "a"), ("c",), ("a", "c"), ["a"], ["a", "b"], "a", "ab", ("a", "b", "b"),
-                                (("a",),), ("a", None), ("a", True), {"a": "b"}, ("a", "b", "c")]
+        wrong = any_values() + [("b", "a"), ("a", "a"), ("c",), ("a", "c"), ["a"], ["a", "b"], "a", "ab", (("a",),),
+                                ("a", None), ("a", True), {"a": "b"}, ("a", "b", "c"), ("a", "b", "b")]
         for row in wrong:
             self.assert_error(InvalidRow, {"value": row}, Rows, ("a", "b"), row)
             self.assert_error(InvalidRow, {"value": row}, Rows, ("a", "b"), (), row, ("a",), 7)
@@ -145,12 +145,12 @@ class RowsLeftOutTest(unittest.TestCase, Checks):
 
     def test_equal(self):
         rows = Rows(("a", "b"), (), ("b",))
-        self.assertTrue(rows == Rows(("a", "b"), ("b",), (), ("b",)))
-        self.assertFalse(rows != Rows.of(("a", "b"), [(), ("b",)]))
+        self.assertIs(rows == Rows(("a", "b"), ("b",), (), ("b",)), True)
+        self.assertIs(rows != Rows.of(("a", "b"), [(), ("b",)]), False)
         for other in [Rows(("b", "a"), (), ("b",)), Rows(("a", "b"), ()), Rows(("a", "b"), (), ("a",)),
                       Rows(("a", "b", "c"), (), ("b",)), Rows(("c", "b"), (), ("b",))]:
-            self.assertFalse(rows == other)
-            self.assertTrue(rows != other)
+            self.assertIs(rows == other, False)
+            self.assertIs(rows != other, True)
         for value in any_values() + [rows.possible, rows.conditions, (rows.conditions, rows.possible), repr(rows)]:
-            self.assertFalse(rows == value)
-            self.assertFalse(value == rows)
+            self.assertIs(rows == value, False)
+            self.assertIs(value == rows, False)
