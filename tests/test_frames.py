@@ -6,6 +6,7 @@ from orplaces.kinds import AnyOf, Kind, Masks, Test, Window
 from orplaces.rows import Rows
 from orplaces.signals import Signals
 from orplaces.stores import Word
+from makers import maker, moved, moved_frame, moved_row, some_frame
 from support import Checks, any_values
 
 ROWS = Rows(("a", "b"), (), ("a",), ("b",), ("a", "b"))
@@ -115,3 +116,36 @@ class FrameTest(unittest.TestCase, Checks):
         self.assertEqual([FRAME.with_rows(few).rows, FRAME.rows], [few, ROWS])
         for value in any_values() + [Rows.full(("b", "a")), Rows.full(("a",)), Rows.full(("a", "b", "c")), ("a", "b")]:
             self.assert_error(InvalidFrame, {"part": "rows"}, FRAME.with_rows, value)
+
+
+class MovedTest(unittest.TestCase):
+    def test_bits_and_names_that_are_moved(self):
+        for seed in range(40):
+            rng = maker(seed)
+            frame = some_frame(rng, 4, ("a", "b", "c"))
+            bits, names = rng.sample(range(4), 4), {"n": "k2", "k0": "n", "k1": "k0", "k2": "k1"}
+            other = moved_frame(frame, bits, names, {"a": "b", "b": "c", "c": "a"})
+            self.assertEqual(other.idle, moved(frame.idle, bits))
+            for kind in frame.kinds:
+                for base in range(16):
+                    landing = tuple(moved(at, bits) for at in frame.landing(kind.name, base))
+                    self.assertEqual(other.landing(names[kind.name], moved(base, bits)), landing)
+            pages = [sorted(moved(at, bits) for at in page) for page in frame.pages()]
+            self.assertEqual([list(page) for page in other.pages()], sorted(pages))
+            self.assertEqual(other.rows.possible, tuple(moved_row(row, {"a": "b", "b": "c", "c": "a"})
+                                                        for row in frame.rows.possible))
+
+    def test_landings_and_pages_as_a_whole(self):
+        for seed in range(40):
+            frame = some_frame(maker(seed), 4, ("a", "b", "c"))
+            pages = list(frame.pages())
+            self.assertEqual(sorted(at for page in pages for at in page), list(range(16)))
+            self.assertEqual([page[0] for page in pages], sorted(page[0] for page in pages))
+            for page in pages:
+                self.assertEqual([frame.page(at) for at in page], [page[0]] * len(page))
+            for kind in frame.kinds:
+                for base in range(16):
+                    landing = frame.landing(kind.name, base)
+                    self.assertEqual(landing, tuple(base | kind(row) for row in frame.rows.possible))
+                    self.assertEqual({frame.page(at) for at in landing}, {frame.page(base)})
+                    self.assertEqual(frame.wider().landing(kind.name, base + 16), tuple(at + 16 for at in landing))

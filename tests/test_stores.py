@@ -1,5 +1,6 @@
 import unittest
 
+from makers import maker, moved, moved_frame, moved_store, some_frame, some_store
 from orplaces.errors import Blank, InvalidAddress, InvalidWord, Locked, NotPossible, OrError, Unlike
 from orplaces.frames import Frame
 from orplaces.kinds import Kind, Masks, Test
@@ -394,3 +395,42 @@ class TrialTest(unittest.TestCase, Checks):
         self.assertEqual(store, example())
         with self.assertRaises(OrError):
             in_trial(store, lambda held: held[1])
+
+
+class RunTest(unittest.TestCase):
+    def some_runs(self):
+        """Stores with an address and a sequence."""
+        for seed in range(40):
+            rng = maker(seed)
+            store = some_store(rng, some_frame(rng, 3), full=0.9)
+            yield rng, store, rng.randrange(8), rng.choices(store.frame.rows.possible, k=6)
+
+    def test_with_the_bits_moved(self):
+        for rng, store, address, sequence in self.some_runs():
+            bits, names = rng.sample(range(3), 3), {"n": "k0", "k0": "k1", "k1": "k2", "k2": "n"}
+            other = moved_store(store, moved_frame(store.frame, bits, names, {"a": "a", "b": "b"}), bits, names)
+            path = [moved(at, bits) for at in store.path(address, sequence)]
+            self.assertEqual(list(other.path(moved(address, bits), sequence)), path)
+            self.assertEqual(other.blank, tuple(sorted(moved(at, bits) for at in store.blank)))
+
+    def test_with_one_bit_more(self):
+        for rng, store, address, sequence in self.some_runs():
+            wider = Store(store.frame.wider(), dict(store.words()), locked=store.locked)
+            path = list(store.path(address, sequence))
+            self.assertEqual(list(wider.path(address, sequence)), path)
+            upper = Store(wider.frame, {at + 8: Word(word.kind, word.base + 8, word.signals)
+                                        for at, word in store.words()})
+            self.assertEqual(list(upper.path(address + 8, sequence)), [at + 8 for at in path])
+            self.assertEqual([len(wider), upper.blank[:8]], [len(store), tuple(range(8))])
+
+    def test_with_fewer_possible_rows(self):
+        for rng, store, address, sequence in self.some_runs():
+            rows = Rows.of(("a", "b"), sequence[:2])
+            few = Store(store.frame.with_rows(rows), dict(store.words()), locked=store.locked)
+            chosen = rng.choices(rows.possible, k=5)
+            self.assertEqual(list(few.path(address, chosen)), list(store.path(address, chosen)))
+            barred = [row for row in store.frame.rows.possible if row not in rows]
+            for row in barred:
+                with self.assertRaises(NotPossible):
+                    few(address, row)
+                self.assertEqual(few.stepped(address, row), store.stepped(address, row))
