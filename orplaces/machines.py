@@ -12,6 +12,10 @@ class Machine:
         """The stand to which the row leads, None at a blank address."""
         raise NotImplementedError("each machine tells how it steps")
 
+    def has_stand(self, stand):
+        """Whether any value is one of the machine's stands."""
+        raise NotImplementedError("each machine tells what its stands are")
+
     def check_stand(self, stand):
         """Raises the machine's error if any value is none of its stands."""
         raise NotImplementedError("each machine tells what its stands are")

@@ -85,6 +85,10 @@ class Program(Machine):
         """The names of the states, in order."""
         return tuple(self._named)
 
+    def has_stand(self, stand):
+        """Whether any value is the name of a state."""
+        return stand in self
+
     def check_stand(self, stand):
         """Raises NoState if any value is the name of no state."""
         if stand not in self:

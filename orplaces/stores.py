@@ -75,6 +75,10 @@ class Store(Machine):
         for address in sorted(self._held):
             yield address, self._held[address]
 
+    def has_stand(self, stand):
+        """Whether any value is an address."""
+        return self.frame.has_address(stand)
+
     def check_stand(self, stand):
         """Raises InvalidAddress if any value is no address."""
         self.frame.check_address(stand)

@@ -3,7 +3,8 @@
 import inspect
 import unittest
 
-from orplaces import frames, kinds, machines, names, programs, rows, signals, stores
+from orplaces import classes, equivalence, frames, kinds, knots, landings, machines, names, programs, rows, search
+from orplaces import signals, stores
 
 LISTED = {
     names: {"is_name": None},
@@ -26,6 +27,14 @@ LISTED = {
     programs: {
         "State": "__init__ of leads __eq__",
         "Program": "__init__ listed of MOST __getitem__ __contains__ __len__ names __call__ __or__ apart __eq__"},
+    classes: {"Classes": "__init__ groups __len__ __contains__ number signals_of tag_of led way parting partings "
+                         "is_partition"},
+    equivalence: {name: None for name in ["parting", "table", "is_table", "walk", "carries", "failing"]},
+    landings: {"Landings": "__init__ __len__ in_order __contains__ __getitem__ right",
+               "clashes": None, "can_keep": None, "fresh_pages": None, "hidden": None},
+    knots: {"Knot": "first committed waiting landing_of closed asked __bool__ cases after end_store"},
+    search: {"Outcome": "starts given __bool__ __len__ lines", "Made": "result __bool__ __len__",
+             "Barred": "__bool__ __len__", "grown": None, "least": None},
 }
 
 
