@@ -3,6 +3,7 @@
 from orplaces.errors import NoClass, NoCondition, NoState, NotPossible
 from orplaces.integers import is_integer
 from orplaces.names import is_name
+from orplaces.rounds import Rounds
 
 
 class Classes:
@@ -12,8 +13,10 @@ class Classes:
         check_tests(program, rows)
         self._ways = {state: (start, sequence) for state, start, sequence in program.reached(rows, *states)}
         self._steps = {state: [program.stepped(state, row) for row in rows.possible] for state in self._ways}
-        self._rounds = rounds_of(program, self._steps)
-        self._groups = grouped(self._rounds[-1])
+        looks = {state: look(program, state) for state in self._ways}
+        self._rounds = Rounds(looks, self._steps, rows.possible)
+        self._class_of = self._rounds.last_numbers()
+        self._groups = grouped(self._class_of)
         self.program = program
         self.rows = rows
         self.states = tuple(self._ways)
@@ -26,7 +29,7 @@ class Classes:
     def number(self, state):
         """The number of the class of a state."""
         self.check_reached(state)
-        return self._rounds[-1][state]
+        return self._class_of[state]
 
     def signals_of(self, number):
         """The Signals of the states of a class."""
@@ -57,16 +60,9 @@ class Classes:
 
     def parting(self, one, other):
         """The first sequence that parts two reached states, tags looked at; None if it is one class."""
-        if self.number(one) == self.number(other):
-            return None
-        together = [numbers for numbers in self._rounds if numbers[one] == numbers[other]]
-        sequence = []
-        # Behind each row of a shortest sequence one row less is wanted, thus one round less as well.
-        for numbers in together[::-1]:
-            at = first_unlike(numbers, self._steps[one], self._steps[other])
-            sequence.append(self.rows.possible[at])
-            one, other = self._steps[one][at], self._steps[other][at]
-        return tuple(sequence)
+        self.check_reached(one)
+        self.check_reached(other)
+        return self._rounds.parting(one, other)
 
     def partings(self):
         """For each two classes their numbers and the parting of their first states."""
@@ -105,34 +101,9 @@ def check_tests(program, rows):
                 raise NoCondition(test)
 
 
-def rounds_of(program, steps):
-    """The numbers of the states by what they show behind up to 0, 1, 2 .. rows, until none changes."""
-    numbers = numbered({state: look(program, state) for state in steps})
-    rounds = [numbers]
-    finer = refined(numbers, steps)
-    while finer != numbers:
-        rounds.append(finer)
-        numbers = finer
-        finer = refined(numbers, steps)
-    return rounds
-
-
 def look(program, state):
     """What is looked at in a state: its signals and its tag."""
     return program[state].signals.told, program[state].tag
-
-
-def refined(numbers, steps):
-    """The numbers of states that are told apart by one row more."""
-    return numbered({state: (numbers[state], *[numbers[led] for led in steps[state]]) for state in steps})
-
-
-def numbered(keys):
-    """A number for each state by its key, the numbers in the order of the first states."""
-    found = {}
-    for state in keys:
-        found.setdefault(keys[state], len(found))
-    return {state: found[keys[state]] for state in keys}
 
 
 def grouped(numbers):
@@ -141,12 +112,6 @@ def grouped(numbers):
     for state in numbers:
         groups.setdefault(numbers[state], []).append(state)
     return tuple([tuple(groups[number]) for number in sorted(groups)])
-
-
-def first_unlike(numbers, ones, others):
-    """The first index at which two lists have states of unlike numbers."""
-    unlike = [numbers[one] != numbers[other] for one, other in zip(ones, others)]
-    return unlike.index(True)
 
 
 def are_groups(classes, value):

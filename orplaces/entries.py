@@ -26,5 +26,10 @@ def check_fields(program, fields):
 def entry_classes(store, program, entries):
     """The classes of the entries' states, by ascending addresses."""
     rows = store.frame.rows
-    states = [entries[address] for address in sorted(entries)]
+    states = entry_states(entries)
     return Classes(program, rows, *states)
+
+
+def entry_states(entries):
+    """The states of the entries, by ascending addresses."""
+    return [entries[address] for address in sorted(entries)]

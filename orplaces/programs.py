@@ -116,10 +116,10 @@ class Program(Machine):
             raise Taken(other)
         targets = list(state.targets)
         targets[index] = other
-        changed = {**self._named, name: State.of(name, state.signals, targets, state.tests, state.tag)}
-        old = changed[state.targets[index]]
+        turned = {**self._named, name: State.of(name, state.signals, targets, state.tests, state.tag)}
+        old = turned[state.targets[index]]
         fresh = State.of(other, old.signals, old.targets, old.tests, other)
-        return Program.listed(list(changed.values()) + [fresh])
+        return Program.listed(list(turned.values()) + [fresh])
 
     def __getitem__(self, at):
         self.check_stand(at)

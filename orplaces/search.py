@@ -7,6 +7,7 @@ from orplaces.knots import Knot
 from orplaces.landings import hidden
 
 MOST_LIMIT = 4000
+USUAL_LIMIT = 2000
 
 
 class Growth:
@@ -126,7 +127,7 @@ class Barred(Outcome):
         return 0
 
 
-def grown(store, program, entries, bound=None, *, limit=2000):
+def grown(store, program, entries, bound=None, *, limit=USUAL_LIMIT):
     """The tree for one bound, the store of its end, whether a knot was dear, and how many were asked."""
     check_limit(limit)
     growth = Growth(limit)
@@ -135,7 +136,7 @@ def grown(store, program, entries, bound=None, *, limit=2000):
     return tree, result, growth.dear, growth.knots
 
 
-def least(store, program, entries, *, limit=2000):
+def least(store, program, entries, *, limit=USUAL_LIMIT):
     """The Made with the fewest writes, or why there is none."""
     check_limit(limit)
     first = Knot.first(store, program, entries)

@@ -37,6 +37,23 @@ def some_program(rng, many, conditions=("a", "b"), numbers=3, tags=(None,), most
     return Program.listed(states)
 
 
+def some_search(rng, widths, most_states=4, numbers=2):
+    """A store, a program and entries."""
+    frame = some_frame(rng, rng.choice(widths), rng.choice([("a",), ("a", "b")]))
+    conditions = frame.rows.conditions
+    store = some_store(rng, frame, numbers, full=rng.choice([0, 0.3, 0.6, 0.9]), locked=rng.choice([0, 0.1, 0.3]))
+    program = some_program(rng, rng.randint(1, most_states), conditions, numbers, tags=(None, None, "t"))
+    many = min(frame.size, rng.randint(1, 2))
+    return store, program, {at: rng.choice(program.names) for at in rng.sample(range(frame.size), many)}
+
+
+def some_patch(rng, store, many=2):
+    """A patch at addresses that are not locked."""
+    free = [at for at in range(store.frame.size) if at not in store.locked]
+    return {at: Word(rng.choice(store.frame.kinds).name, rng.randrange(store.frame.size), Signals(x=rng.randrange(3)))
+            for at in rng.sample(free, min(len(free), rng.randint(1, many)))}
+
+
 def maker(seed):
     return random.Random(seed)
 
@@ -62,5 +79,26 @@ def moved_row(row, conditions):
 def moved_store(store, frame, bits, names):
     """The store in the moved frame."""
     words = {moved(at, bits): Word(names[word.kind], moved(word.base, bits), word.signals)
+             for at, word in store.words()}
+    return Store(frame, words, locked=[moved(at, bits) for at in store.locked])
+
+
+def moved_signals(signals, fields):
+    return Signals.of([(fields[field], number) for field, number in signals.told])
+
+
+def exchanged_program(program, names, conditions, fields, tags):
+    """The program with other names of states, conditions, fields and tags."""
+    return Program.listed([
+        State.of(names[state.name], moved_signals(state.signals, fields), [names[target] for target in state.targets],
+                 [conditions[test] for test in state.tests], tags[state.tag])
+        for state in [program[name] for name in program.names]])
+
+
+def exchanged_store(store, bits, kinds, conditions, fields):
+    """The store with its bits at other places, and other names of kinds, conditions and fields."""
+    frame = moved_frame(store.frame, bits, kinds, conditions)
+    frame = Frame.of(frame.width, frame.rows, tuple(fields[field] for field in frame.fields), frame.kinds)
+    words = {moved(at, bits): Word(kinds[word.kind], moved(word.base, bits), moved_signals(word.signals, fields))
              for at, word in store.words()}
     return Store(frame, words, locked=[moved(at, bits) for at in store.locked])

@@ -2,8 +2,7 @@
 
 import itertools
 
-from orplaces.rows import Rows
-from orplaces.stores import Store, Word
+from orplaces.stores import Word
 
 
 def sequences(rows, most):
@@ -221,3 +220,42 @@ class NaiveSearch:
             if made:
                 return many, made
         return None, []
+
+
+def naive_partition(program, rows, states, groups, partings):
+    """Whether these tuples are what the document says of the classes and the partings of a floor."""
+    met = naive_met(program, rows, states)
+    if sorted(state for group in groups for state in group) != sorted(met) or () in groups:
+        return False
+    group_of = {state: number for number, group in enumerate(groups) for state in group}
+    for state in met:
+        first = groups[group_of[state]][0]
+        if looked(program, state) != looked(program, first):
+            return False
+        if any(group_of[program(state, row)] != group_of[program(first, row)] for row in rows.possible):
+            return False
+    pairs = [(i, j) for i in range(len(groups)) for j in range(i + 1, len(groups))]
+    return [part[:2] for part in partings] == pairs and all(
+        looked(program, run(program, groups[i][0], sequence)) != looked(program, run(program, groups[j][0], sequence))
+        for i, j, sequence in partings)
+
+
+def naive_tree(search, bound, knot, tree):
+    """Whether the tree is one of the knot for the bound, any waiting address asked, without an end."""
+    if search.closed(knot, bound) or not search.waiting(knot) or tree == () or tree[0] not in search.waiting(knot):
+        return False
+    later = [search.after(knot, tree[0], case) for case in search.cases(knot, tree[0])]
+    later = [knot for knot in later if not search.closed(knot, bound)]
+    return len(later) == len(tree) - 1 and all(
+        naive_tree(search, bound, knot, below) for knot, below in zip(later, tree[1:]))
+
+
+def naive_floor(search, floor):
+    """Whether a tuple of a right form is a floor."""
+    bound, groups, partings, tree = floor
+    states = [search.entries[at] for at in sorted(search.entries)]
+    if not naive_partition(search.program, search.frame.rows, states, groups, partings):
+        return False
+    if search.closed(search.first, bound):
+        return tree == ()
+    return naive_tree(search, bound, search.first, tree)

@@ -1,6 +1,7 @@
 """The rules of the language that can be counted, over the files of the package."""
 
 import ast
+import builtins
 import pathlib
 import unittest
 
@@ -47,3 +48,19 @@ class LanguageTest(unittest.TestCase):
         for node in functions:
             if any(isinstance(inner, (ast.Yield, ast.YieldFrom)) for inner in ast.walk(node)):
                 self.assertEqual(names.count(node.name), 1, node.name)
+
+    def test_builtins_and_methods_of_builtin_values(self):
+        allowed = set("""len range enumerate zip min max sum abs sorted reversed int str bool list tuple dict set isinstance
+            repr any all ValueError TypeError NotImplementedError property staticmethod classmethod""".split())
+        methods = set("""append clear copy count endswith extend find get index insert items join keys lower partition pop
+            remove replace reverse setdefault sort split startswith strip update upper values""".split())
+        trees = {path.name: ast.parse(path.read_text()) for path in FILES}
+        own = {node.name for tree in trees.values() for node in ast.walk(tree) if isinstance(node, ast.FunctionDef)}
+        for name, tree in trees.items():
+            for node in ast.walk(tree):
+                if isinstance(node, ast.Name) and hasattr(builtins, node.id):
+                    self.assertIn(node.id, allowed, name)
+                    self.assertIsInstance(node.ctx, ast.Load, name)
+                if isinstance(node, ast.Call) and isinstance(node.func, ast.Attribute):
+                    self.assertIn(node.func.attr, methods | own, name)
+                self.assertNotIsInstance(node, (ast.GeneratorExp, ast.Lambda, ast.Global, ast.SetComp), name)

@@ -1,7 +1,7 @@
 import inspect
 import unittest
 
-from makers import maker, some_frame, some_program, some_store
+from makers import maker, some_search
 from naive import NaiveSearch, naive_carries, naive_walk
 from orplaces.classes import Classes
 from orplaces.equivalence import carries, parting
@@ -21,16 +21,6 @@ PROGRAM = Program(State("s", Signals(x=1), "s", "t", tests=("b",)), State("t", S
 SMALL = Frame(1, Rows.full(("a",)), ("x",), Kind("n"), Test("t", "a", 0))
 RING = Program(State("p", Signals(x=1), "p", "q", tests=("a",)), State("q", Signals(x=2), "q", "p", tests=("a",)))
 NONE = Signals()
-
-
-def some_search(rng, widths, most_states=4, numbers=2):
-    """A store, a program and entries."""
-    frame = some_frame(rng, rng.choice(widths), rng.choice([("a",), ("a", "b")]))
-    conditions = frame.rows.conditions
-    store = some_store(rng, frame, numbers, full=rng.choice([0, 0.3, 0.6, 0.9]), locked=rng.choice([0, 0.1, 0.3]))
-    program = some_program(rng, rng.randint(1, most_states), conditions, numbers, tags=(None, None, "t"))
-    many = min(frame.size, rng.randint(1, 2))
-    return store, program, {at: rng.choice(program.names) for at in rng.sample(range(frame.size), many)}
 
 
 def knots_of(tree):
