@@ -3,8 +3,8 @@
 import inspect
 import unittest
 
-from orplaces import classes, equivalence, frames, kinds, knots, landings, machines, names, programs, rows, search
-from orplaces import signals, stores
+from orplaces import classes, desk, equivalence, floors, frames, kinds, knots, landings, machines, names, needs, patches
+from orplaces import programs, reader, rows, runners, search, signals, stores, texts
 
 LISTED = {
     names: {"is_name": None},
@@ -35,6 +35,15 @@ LISTED = {
     knots: {"Knot": "first committed waiting landing_of closed asked __bool__ cases after end_store"},
     search: {"Outcome": "starts given __bool__ __len__ lines", "Made": "result __bool__ __len__",
              "Barred": "__bool__ __len__", "grown": None, "least": None},
+    floors: {"check_made": None, "check_floor": None, "check_bar": None},
+    needs: {"lock_costs": None, "must_write": None},
+    patches: {"changed": None, "arrivals": None, "is_alone": None},
+    runners: {"Runner": "__init__ place raised steps shown step __call__ run trial tried __repr__",
+              "assign_place": None, "assign_raised": None},
+    texts: {name: None for name in ["row_text", "signals_text", "word_text", "frame_text", "program_text", "store_text",
+                                    "floor_text"]},
+    reader: {name: None for name in ["read_frame", "read_program", "read_store", "read_floor", "read_word", "read_row"]},
+    desk: {"Desk": "__init__ starts say __call__ run", "listing": None},
 }
 
 
